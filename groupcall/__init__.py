@@ -1,0 +1,1 @@
+"""Groupcall: calls to a group, taken alike by all who go on."""

@@ -1,0 +1,33 @@
+"""Sets of hands: whole numbers in which hand h is the bit worth 1 << h."""
+
+
+def bit_of(hand):
+    # A number below 0 is no hand, but nothing is refused for it: it is in no set.
+    return 1 << hand if hand >= 0 else 0
+
+
+def has(hands, hand):
+    return (hands & bit_of(hand)) != 0
+
+
+def hands_of(hands):
+    return [hand for hand in range(hands.bit_length()) if has(hands, hand)]
+
+
+def set_of(some):
+    hands = 0
+    for hand in some:
+        hands = hands | bit_of(hand)
+    return hands
+
+
+def many(hands):
+    return len(hands_of(hands))
+
+
+def least(hands):
+    return min(hands_of(hands), default=None)
+
+
+def more_than_half(some, hands):
+    return 2 * many(some & hands) > many(hands)

@@ -1,5 +1,7 @@
 """Sets of hands: whole numbers in which hand h is the bit worth 1 << h."""
 
+LAST_HAND = 62
+
 
 def bit_of(hand):
     # A number below 0 is no hand, but nothing is refused for it: it is in no set.

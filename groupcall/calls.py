@@ -2,7 +2,7 @@
 
 from groupcall.counts import count_of, covers, unpacked
 from groupcall.errors import NoCall, NoKind, NoWord
-from groupcall.sets import LAST_HAND
+from groupcall.sets import LAST_HAND, is_whole
 
 KINDS = ("own", "heard", "one")
 DIGITS = "0123456789"
@@ -70,10 +70,7 @@ class OneCall(HeardCall):
 
 
 def is_word(word):
-    # True and False are ints to Python, but no whole numbers here.
-    if not isinstance(word, int) or isinstance(word, bool):
-        return False
-    return abs(word) < 10 ** 60
+    return is_whole(word) and abs(word) < 10 ** 60
 
 
 def make_call(number, caller, count, kind, word, causes):

@@ -3,6 +3,19 @@
 LAST_HAND = 62
 
 
+def is_whole(value):
+    # True and False are ints to Python, but no whole numbers here.
+    return isinstance(value, int) and not isinstance(value, bool)
+
+
+def is_hand(value):
+    return is_whole(value) and 0 <= value <= LAST_HAND
+
+
+def is_set(value):
+    return is_whole(value) and 0 <= value < 1 << (LAST_HAND + 1)
+
+
 def bit_of(hand):
     # A number below 0 is no hand, but nothing is refused for it: it is in no set.
     return 1 << hand if hand >= 0 else 0

@@ -2,11 +2,15 @@
 
 from groupcall.counts import count_of, covers, unpacked
 from groupcall.errors import NoCall, NoKind, NoWord
-from groupcall.sets import LAST_HAND, is_whole
+from groupcall.sets import LAST_HAND, is_whole, rise
 
 KINDS = ("own", "heard", "one")
 DIGITS = "0123456789"
 MOST_FIGURES = 60
+
+
+def shown_causes(causes):
+    return [f"{hand}:{count}" for hand, count in causes]
 
 
 class Call:
@@ -40,8 +44,7 @@ class Call:
 
     def shown(self):
         name = ".".join([str(part) for part in self.name()])
-        causes = [f"{hand}:{count}" for hand, count in self.causes]
-        return " ".join([name, self.kind(), str(self.word)] + causes)
+        return " ".join([name, self.kind(), str(self.word)] + shown_causes(self.causes))
 
 
 class OwnCall(Call):
@@ -136,9 +139,7 @@ def read_cause(text):
 
 def read_causes(texts):
     causes = [read_cause(text) for text in texts]
-    hands = [cause[0] for cause in causes]
-    # Equal lists mean rising hands, each once.
-    if hands != sorted(set(hands)):
+    if not rise([cause[0] for cause in causes]):
         raise NoCall("the hands of the causes do not rise")
     return tuple(causes)
 

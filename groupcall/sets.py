@@ -16,6 +16,11 @@ def is_set(value):
     return is_whole(value) and 0 <= value < 1 << (LAST_HAND + 1)
 
 
+def rise(hands):
+    # Equal lists mean rising hands, each once.
+    return hands == sorted(set(hands))
+
+
 def bit_of(hand):
     # A number below 0 is no hand, but nothing is refused for it: it is in no set.
     return 1 << hand if hand >= 0 else 0
